@@ -1,0 +1,1 @@
+"""Commutative groups and complexes over the integers, with papers."""

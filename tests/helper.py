@@ -1,0 +1,146 @@
+"""What the tests share: values of all kinds, small groups, and checks of errors."""
+
+import itertools
+import random
+import unittest
+
+from cyclebounds.errors import Fault, Malformed, NoText, Refused
+from cyclebounds.group import Group, cyclic_group, free_group
+from cyclebounds.maps import Map, identity_map
+from cyclebounds.subgroup import Subgroup, whole
+
+GREAT = 10 ** 60 + 7
+
+
+def deep(levels):
+    value = (1,)
+    for _ in range(levels):
+        value = (value,) if levels % 2 else [value]
+    return value
+
+
+# Values of every kind that the document names; none of them is a row of integers of a length above 3.
+ODD = (
+    None, True, False, 0, 1, -1, 41, GREAT, -GREAT, "", "a", "12", "2: 2 0", "\u00b2", "\ud800",
+    (), [], (1,), [1], (True,), (False, 0), (1, None), ("1",), ("a", 1), (1, 2), [1, 2], (1, 2, 3), [[1, 2]],
+    ((),), [()], ([],), [[]], ((1,),), ((1, 2),), ([1, 2],), ((1, 2), (3,)), ((1, 2), 3), ((1, True),), (((1, 2),),),
+    deep(59), deep(58), cyclic_group(3), free_group(2), whole(cyclic_group(2)), identity_map(cyclic_group(2)),
+    (cyclic_group(2), 1), [identity_map(free_group(1))], Refused("large"), NoText(0),
+)
+
+
+class Case(unittest.TestCase):
+    """A test case with the checks of the errors of the program."""
+
+    def malformed(self, call, *args):
+        with self.assertRaises(Malformed, msg=repr(args)[:200]):
+            call(*args)
+
+    def refused(self, reason, call, *args):
+        with self.assertRaises(Refused, msg=repr(args)[:200]) as caught:
+            call(*args)
+        self.assertEqual(caught.exception.reason, reason)
+
+    def no_text(self, call, *args):
+        with self.assertRaises(NoText, msg=repr(args)[:200]) as caught:
+            call(*args)
+        self.assertEqual(caught.exception.at, 0)
+
+    def malformed_unless_row(self, call, n):
+        """Each odd value that is no row of the length n raises Malformed, and rows raise nothing."""
+        for value in ODD + ((0,) * (n + 1), [0] * n):
+            if plainly_row(value, n):
+                call(value)
+            else:
+                self.malformed(call, value)
+
+    def same_truth(self, call, expected, values):
+        """A function answers with True and False, and as another one does, for all values."""
+        for value in values:
+            answer = call(value)
+            self.assertIsInstance(answer, bool)
+            self.assertEqual(answer, expected(value), repr(value)[:200])
+
+
+def plainly_row(value, n):
+    return type(value) is tuple and len(value) == n and all(type(item) is int for item in value)
+
+
+def plainly_rows(value, n):
+    """What Group, Subgroup and Map take as rows: lists or tuples of lists or tuples of integers."""
+    return type(value) in (list, tuple) and all(type(row) in (list, tuple) and plainly_row(tuple(row), n)
+                                                for row in value)
+
+
+def seeded(number):
+    return random.Random(number)
+
+
+def random_rows(chance, n, width, most):
+    return tuple(tuple(chance.randint(-most, most) for _ in range(width)) for _ in range(n))
+
+
+def boxes(n, most):
+    """All rows of the length n with items from 0 to most - 1."""
+    return itertools.product(range(most), repeat=n)
+
+
+def snapshot(value):
+    """A value as nested tuples that tell its kinds and fields, to see whether it has changed."""
+    if isinstance(value, (list, tuple)):
+        return (type(value).__name__,) + tuple(snapshot(item) for item in value)
+    if isinstance(value, dict):
+        return ("dict",) + tuple((snapshot(key), snapshot(item)) for key, item in value.items())
+    if isinstance(value, (Group, Subgroup, Map)):
+        return (type(value).__name__,) + tuple((key, snapshot(item)) for key, item in sorted(vars(value).items()))
+    return (type(value).__name__, value)
+
+
+FINITE = (
+    Group(0),
+    cyclic_group(1),
+    cyclic_group(2),
+    cyclic_group(3),
+    cyclic_group(4),
+    Group(2, ((2, 0), (0, 2))),
+    Group(2, ((1, 1), (0, 4))),
+    Group(2, ((2, 1), (0, 3))),
+    Group(2, ((2, 0), (0, 4))),
+    Group(3, ((1, 0, 1), (0, 2, 1), (0, 0, 2))),
+)
+
+
+def all_matrices(a, b):
+    """The matrices with normal rows of all maps between finite groups, found by trying all images."""
+    found = []
+    for images in itertools.product(b.all_elements(), repeat=a.n):
+        sums = [combined(relation, images, b.n) for relation in a.relations]
+        if all(b.is_zero(row) for row in sums):
+            found.append(images)
+    return found
+
+
+def all_maps(a, b):
+    return [Map(a, b, images) for images in all_matrices(a, b)]
+
+
+def combined(row, images, width):
+    """The sum of the images times the items of the row, worked out item by item."""
+    return tuple(sum(item * image[j] for item, image in zip(row, images)) for j in range(width))
+
+
+def plus(group, x, y):
+    return group.normal(tuple(a + b for a, b in zip(x, y)))
+
+
+def images_of(f):
+    """The dict from the elements of the finite source to their values."""
+    return {x: f.value(x) for x in f.source.all_elements()}
+
+
+def members(subgroup):
+    """The set of the normal rows of the elements of a subgroup of a finite group."""
+    return {x for x in subgroup.group.all_elements() if subgroup.holds(x)}
+
+
+FAULTS = (Fault, Malformed, Refused, NoText)

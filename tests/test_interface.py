@@ -1,0 +1,81 @@
+"""The names and arguments of the interface stand where it lists them (point 0.1)."""
+
+import importlib
+import inspect
+import pathlib
+import unittest
+
+import cyclebounds
+
+FUNCTIONS = {
+    "whole": ("is_integer(value)", "common_divisor(numbers)", "combination(a, b)"),
+    "rows": (
+        "is_row(value, n)", "is_matrix(value, n, width)", "unit_row(n, i)", "unit_matrix(n)", "zero_matrix(n, width)",
+        "add(v, w)", "scaled(v, c)", "dot(v, w)", "moved(x, rows, width)", "times(one, two, width)",
+        "transposed(rows, width)", "span(rows, width)", "is_reduced(value, width)", "rest(space, x)",
+        "holds(space, x)", "coordinates(space, x)", "sum_of(a, b, width)", "common_part(a, b, width)",
+        "kernel(rows, width)", "solve(rows, width, b)"),
+    "smith": (
+        "divisors(rows, width)", "smith(rows, width)", "bar(rows, width, b)", "determinant(matrix)",
+        "is_turnable(value, n)", "inverse(matrix)"),
+    "group": ("read_group(text)", "free_group(n)", "cyclic_group(k)", "are_isomorphic(a, b)"),
+    "subgroup": (
+        "whole(group)", "zero(group)", "sum_of_subgroups(a, b)", "meet(a, b)", "multiples(group, k)",
+        "annulled(group, k)", "torsion(group)"),
+    "maps": (
+        "identity_map(g)", "zero_map(a, b)", "group_of(subgroup)", "quotient_of(subgroup)", "standard_group(g)",
+        "isomorphism(a, b)"),
+    "exact": ("is_exact(f, g)", "origin(f, y)", "lifted(f, g)", "extended(f, i)"),
+    "build": (
+        "sum_of_groups(groups)", "into_sum(groups, k)", "out_of_sum(groups, k)", "pullback(f, g)",
+        "into_pullback(f, g, u, v)", "pushout(f, g)", "out_of_pushout(f, g, u, v)"),
+    "tensor": (
+        "tensor_group(a, b)", "tensor_of(a, b, x, y)", "tensor_map(f, g)", "hom_group(a, b)", "hom_into(a, b)",
+        "hom_of(a, b, x)", "hom_row(f)", "hom_map(f, g)", "tor_group(a, b)", "tor_into(a, b)", "tor_map(f, b)"),
+}
+
+CLASSES = {
+    ("errors", "Fault"): (),
+    ("errors", "Malformed"): (),
+    ("errors", "Refused"): ("__init__(self, reason)",),
+    ("errors", "NoText"): ("__init__(self, at)",),
+    ("group", "Group"): (
+        "__init__(self, n, relations=())", "is_row(self, value)", "normal(self, x)", "same(self, x, y)",
+        "is_zero(self, x)", "order_of(self, x)", "order(self)", "invariants(self)", "all_elements(self)",
+        "__eq__(self, other)", "__str__(self)"),
+    ("subgroup", "Subgroup"): (
+        "__init__(self, group, rows)", "holds(self, value)", "index(self)", "is_inside(self, other)",
+        "__eq__(self, other)"),
+    ("maps", "Map"): (
+        "__init__(self, source, target, matrix)", "value(self, x)", "__eq__(self, other)", "__add__(self, other)",
+        "__sub__(self, other)", "__neg__(self)", "scaled(self, k)", "then(self, g)", "kernel(self)", "image(self)",
+        "is_zero(self)", "is_one_to_one(self)", "is_onto(self)", "inverse(self)"),
+}
+
+
+def module(name):
+    return importlib.import_module(f"cyclebounds.{name}")
+
+
+class Interface(unittest.TestCase):
+    def test_functions(self):
+        for name, signatures in FUNCTIONS.items():
+            for signature in signatures:
+                called = signature.split("(")[0]
+                function = getattr(module(name), called)
+                self.assertEqual(function.__module__, f"cyclebounds.{name}")
+                self.assertEqual(called + str(inspect.signature(function)), signature)
+
+    def test_classes(self):
+        for (name, called), methods in CLASSES.items():
+            found = getattr(module(name), called)
+            self.assertEqual(found.__module__, f"cyclebounds.{name}")
+            for signature in methods:
+                method = signature.split("(")[0]
+                self.assertIn(method, vars(found))
+                self.assertEqual(method + str(inspect.signature(vars(found)[method])), signature)
+
+    def test_the_package_defines_nothing(self):
+        text = pathlib.Path(cyclebounds.__file__).read_text()
+        body = compile(text, "__init__.py", "exec").co_names
+        self.assertEqual([name for name in body if name != "__doc__"], [])

@@ -1,0 +1,69 @@
+"""No function changes its arguments, and asked again it answers alike (point 0.2)."""
+
+import copy
+
+from tests.helper import Case, snapshot
+from cyclebounds import build, exact, group, maps, rows, smith, subgroup, tensor, whole
+from cyclebounds.group import Group, cyclic_group, read_group
+from cyclebounds.maps import Map, identity_map
+from cyclebounds.subgroup import Subgroup
+
+TABLE = [(2, 4), (3, 1)]
+SPACE = ((1, 7), (0, 10))
+A = Group(2, [[2, 4], [0, 6]])
+B = cyclic_group(4)
+F = Map(A, B, [[2], [2]])
+G = Map(B, A, [[0, 3]])
+PART = Subgroup(A, [[1, 1]])
+OTHER = Subgroup(A, [[0, 2]])
+
+CALLS = (
+    (whole.is_integer, 3), (whole.common_divisor, [4, -6]), (whole.combination, 4, -6),
+    (rows.is_row, [1, 2], 2), (rows.is_matrix, [[1, 2]], 1, 2), (rows.unit_row, 3, 1), (rows.unit_matrix, 3),
+    (rows.zero_matrix, 2, 3), (rows.add, (1, 2), (3, 4)), (rows.scaled, (1, 2), 3), (rows.dot, (1, 2), (3, 4)),
+    (rows.moved, (1, 2), TABLE, 2), (rows.times, TABLE, TABLE, 2), (rows.transposed, TABLE, 2), (rows.span, TABLE, 2),
+    (rows.is_reduced, [list(row) for row in SPACE], 2), (rows.rest, SPACE, (2, 3)), (rows.holds, SPACE, (2, 3)),
+    (rows.coordinates, SPACE, (2, 4)), (rows.sum_of, SPACE, ((0, 3),), 2), (rows.common_part, SPACE, ((0, 3),), 2),
+    (rows.kernel, TABLE, 2), (rows.solve, TABLE, 2, (5, 5)),
+    (smith.divisors, TABLE, 2), (smith.smith, TABLE, 2), (smith.bar, TABLE, 2, (0, 1)),
+    (smith.determinant, tuple(TABLE)), (smith.is_turnable, [[1]], 1), (smith.inverse, ((2, 1), (1, 1))),
+    (Group, 2, [[2, 4], [3, 1]]), (A.is_row, [1, 2]), (A.normal, (3, 0)), (A.same, (3, 0), (1, 2)), (A.is_zero, (2, 4)),
+    (A.order_of, (1, 0)), (A.order,), (A.invariants,), (A.all_elements,), (str, A), (A.__eq__, B),
+    (read_group, "2: 2 4, 0 6"), (group.free_group, 3), (group.cyclic_group, 5), (group.are_isomorphic, A, B),
+    (Subgroup, A, [[1, 1]]), (PART.holds, [1, 1]), (PART.index,), (PART.is_inside, OTHER), (PART.__eq__, OTHER),
+    (subgroup.whole, A), (subgroup.zero, A), (subgroup.sum_of_subgroups, PART, OTHER), (subgroup.meet, PART, OTHER),
+    (subgroup.multiples, A, 2), (subgroup.annulled, A, 2), (subgroup.torsion, A),
+    (Map, A, B, [[2], [2]]), (F.value, (1, 1)), (F.__eq__, G), (F.__add__, F), (F.__sub__, F), (F.__neg__,),
+    (F.scaled, 3), (F.then, G), (F.kernel,), (F.image,), (F.is_zero,), (F.is_one_to_one,), (F.is_onto,),
+    (identity_map(A).inverse,), (maps.identity_map, A), (maps.zero_map, A, B), (maps.group_of, PART),
+    (maps.quotient_of, PART), (maps.standard_group, A), (maps.isomorphism, A, A),
+    (exact.is_exact, F, G), (exact.origin, F, (2,)), (exact.lifted, F, identity_map(B)),
+    (exact.extended, F, identity_map(A)),
+    (build.sum_of_groups, [A, B]), (build.into_sum, [A, B], 1), (build.out_of_sum, [A, B], 1),
+    (build.pullback, F, F), (build.into_pullback, F, F, G, G), (build.pushout, F, F),
+    (build.out_of_pushout, F, F, G, G),
+    (tensor.tensor_group, A, B), (tensor.tensor_of, A, B, (1, 2), (3,)), (tensor.tensor_map, F, G),
+    (tensor.hom_group, A, B), (tensor.hom_into, A, B), (tensor.hom_of, A, B, (1, 1)), (tensor.hom_row, F),
+    (tensor.hom_map, F, G), (tensor.tor_group, A, B), (tensor.tor_into, A, B), (tensor.tor_map, F, B),
+)
+
+
+class Unchanged(Case):
+    def test_arguments_stay_and_answers_are_equal(self):
+        for call, *args in CALLS:
+            # A method's own object counts among what it is handed.
+            held = [args, getattr(call, "__self__", None), A, B, F, G, PART, OTHER, TABLE]
+            before = snapshot(held)
+            first = call(*args)
+            self.assertEqual(snapshot(held), before, call)
+            again = call(*copy.deepcopy(args))
+            self.assertEqual(snapshot(again), snapshot(first), call)
+
+    def test_lists_handed_in_may_change_afterwards(self):
+        relations, matrix, spanning = [[2, 4], [0, 6]], [[2], [2]], [[1, 1]]
+        made = (Group(2, relations), Map(A, B, matrix), Subgroup(A, spanning))
+        before = snapshot(made)
+        for table in (relations, matrix, spanning):
+            table[0][0] = 99
+            table.append([7])
+        self.assertEqual(snapshot(made), before)
