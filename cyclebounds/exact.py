@@ -16,10 +16,16 @@ def is_exact(f, g):
 
 def origin(f, y):
     """Return a row whose image is the element of the row y, or None if there is none."""
-    n = f.target.n
-    if not is_row(y, n):
+    if not is_row(y, f.target.n):
         raise Malformed("no row of the target")
-    return origin_in(solutions(f.matrix, n, f.target.relations), n, y)
+    return origins(f, (y,))[0]
+
+
+def origins(f, rows):
+    """Return, for each row of the target, a row whose image is its element, or None."""
+    n = f.target.n
+    table = solutions(f.matrix, n, f.target.relations)
+    return tuple([origin_in(table, n, row) for row in rows])
 
 
 def generator_orders(group):

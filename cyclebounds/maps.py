@@ -32,7 +32,9 @@ class Map:
     def __eq__(self, other):
         if not isinstance(other, Map):
             return False
-        return are_alongside(self, other) and is_within(difference(self, other), self.target.relations)
+        if not are_alongside(self, other):
+            return False
+        return is_within(difference(self.matrix, other.matrix), self.target.relations)
 
     def __add__(self, other):
         check_alongside(self, other)
@@ -40,7 +42,7 @@ class Map:
 
     def __sub__(self, other):
         check_alongside(self, other)
-        return Map(self.source, self.target, difference(self, other))
+        return Map(self.source, self.target, difference(self.matrix, other.matrix))
 
     def __neg__(self):
         return Map(self.source, self.target, scaled_rows(self.matrix, -1))
@@ -95,9 +97,9 @@ def check_alongside(f, g):
         raise Malformed("the maps are not between the same groups")
 
 
-def difference(f, g):
-    """Return the matrix of f less that of g."""
-    return tuple([blend(v, 1, w, -1) for v, w in zip(f.matrix, g.matrix)])
+def difference(one, two):
+    """Return a matrix less another one, row by row."""
+    return tuple([blend(v, 1, w, -1) for v, w in zip(one, two)])
 
 
 def is_within(rows, space):

@@ -33,6 +33,16 @@ def as_table(value):
     return tuple([tuple(row) for row in value])
 
 
+def joined(rows):
+    """Return the row of the items of all rows, one row after the other."""
+    return tuple([item for row in rows for item in row])
+
+
+def parted(x, n, width):
+    """Return the n rows of this width that stand in a row, one after the other."""
+    return tuple([x[i * width:(i + 1) * width] for i in range(n)])
+
+
 def unit_row(n, i):
     """Return the row of the length n with 1 at the index i and 0 elsewhere."""
     return tuple([1 if j == i else 0 for j in range(n)])

@@ -7,7 +7,7 @@ tensor product of a group without relations and this group.
 from cyclebounds.errors import Malformed, Refused
 from cyclebounds.group import MOST_GENERATORS, Group, free_group
 from cyclebounds.maps import Map, group_of
-from cyclebounds.rows import coordinates, is_row, moved, times, transposed, unit_matrix
+from cyclebounds.rows import coordinates, is_row, joined, moved, parted, times, transposed, unit_matrix
 
 
 def check_product(a, b):
@@ -87,15 +87,13 @@ def hom_of(a, b, x):
     part = maps_as_rows(a, b)
     if not is_row(x, len(part.rows)):
         raise Malformed("no row of the group of the maps")
-    images = moved(x, part.rows, part.group.n)
-    return Map(a, b, [images[i * b.n:(i + 1) * b.n] for i in range(a.n)])
+    return Map(a, b, parted(moved(x, part.rows, part.group.n), a.n, b.n))
 
 
 def hom_row(f):
     """Return the normal row of a map in the group of the maps."""
     part = maps_as_rows(f.source, f.target)
-    images = tuple([item for row in f.matrix for item in row])
-    return group_of(part)[0].normal(coordinates(part.rows, images))
+    return group_of(part)[0].normal(coordinates(part.rows, joined(f.matrix)))
 
 
 def hom_map(f, g):
@@ -123,6 +121,10 @@ def tor_into(a, b):
 def tor_map(f, b):
     """Return the map of Tor that a map gives."""
     part, other = relations_as_rows(f.source, b), relations_as_rows(f.target, b)
+    return between(part, products(relation_multiples(f), unit_matrix(b.n)), other)
+
+
+def relation_multiples(f):
+    """Return, for each relation of the source, the multiples of those of the target whose sum is its image."""
     images = times(f.source.relations, f.matrix, f.target.n)
-    multiples = tuple([coordinates(f.target.relations, row) for row in images])
-    return between(part, products(multiples, unit_matrix(b.n)), other)
+    return tuple([coordinates(f.target.relations, row) for row in images])

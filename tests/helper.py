@@ -1,12 +1,15 @@
 """What the tests share: values of all kinds, small groups, and checks of errors."""
 
 import itertools
+import math
 import random
 import unittest
 
+from cyclebounds.complexes import Complex
 from cyclebounds.errors import Fault, Malformed, NoText, Refused
+from cyclebounds.extension import Extension
 from cyclebounds.group import Group, cyclic_group, free_group
-from cyclebounds.maps import Map, identity_map
+from cyclebounds.maps import Map, identity_map, zero_map
 from cyclebounds.subgroup import Subgroup, whole
 
 GREAT = 10 ** 60 + 7
@@ -25,7 +28,8 @@ ODD = (
     (), [], (1,), [1], (True,), (False, 0), (1, None), ("1",), ("a", 1), (1, 2), [1, 2], (1, 2, 3), [[1, 2]],
     ((),), [()], ([],), [[]], ((1,),), ((1, 2),), ([1, 2],), ((1, 2), (3,)), ((1, 2), 3), ((1, True),), (((1, 2),),),
     deep(59), deep(58), cyclic_group(3), free_group(2), whole(cyclic_group(2)), identity_map(cyclic_group(2)),
-    (cyclic_group(2), 1), [identity_map(free_group(1))], Refused("large"), NoText(0),
+    (cyclic_group(2), 1), [identity_map(free_group(1))], Refused("large"), NoText(0), Complex(0, (1, 1), (((2,),),)),
+    [Complex(1, (), ())], Extension(identity_map(cyclic_group(2)), zero_map(cyclic_group(2), free_group(0))),
 )
 
 
@@ -91,7 +95,7 @@ def snapshot(value):
         return (type(value).__name__,) + tuple(snapshot(item) for item in value)
     if isinstance(value, dict):
         return ("dict",) + tuple((snapshot(key), snapshot(item)) for key, item in value.items())
-    if isinstance(value, (Group, Subgroup, Map)):
+    if isinstance(value, (Group, Subgroup, Map, Extension, Complex)):
         return (type(value).__name__,) + tuple((key, snapshot(item)) for key, item in sorted(vars(value).items()))
     return (type(value).__name__, value)
 
@@ -144,3 +148,78 @@ def members(subgroup):
 
 
 FAULTS = (Fault, Malformed, Refused, NoText)
+
+
+def turnable(chance, n, steps, most=2):
+    """A turnable matrix of the size n and its inverse, made by adding multiples of rows to others."""
+    rows = [[int(i == j) for j in range(n)] for i in range(n)]
+    back = [list(row) for row in rows]
+    for _ in range(steps if n > 1 else 0):
+        i, j = chance.sample(range(n), 2)
+        k = chance.randint(-most, most)
+        rows[i] = [a + k * b for a, b in zip(rows[i], rows[j])]
+        for row in back:
+            row[j] -= k * row[i]
+    if n and chance.randint(0, 1):
+        rows[0] = [-item for item in rows[0]]
+        for row in back:
+            row[0] = -row[0]
+    return rows, back
+
+
+def multiplied(one, two, width):
+    """The product of two matrices, worked out item by item."""
+    return [[sum(a * row[j] for a, row in zip(line, two)) for j in range(width)] for line in one]
+
+
+def chained_pieces(pieces):
+    """The pieces in the order of point 6.6, their numbers changed such that each divides the next one."""
+    found = []
+    for n in sorted({n for n, _ in pieces}):
+        sizes = [s for m, s in pieces if m == n and s > 0]
+        for i in range(len(sizes)):
+            for j in range(i + 1, len(sizes)):
+                low = math.gcd(sizes[i], sizes[j])
+                sizes[i], sizes[j] = low, sizes[i] * sizes[j] // low
+        found += [(n, s) for s in sizes] + [(n, 0) for m, s in pieces if m == n and s == 0]
+    return tuple(found)
+
+
+def pieced(chance, low, count, pieces, steps=6):
+    """The complex with these pieces in some other bases, `count` degrees from `low` on."""
+    ends = [[] for _ in range(count)]
+    for at, (n, s) in enumerate(pieces):
+        ends[n - low].append((at, "low"))
+        if s > 0:
+            ends[n - low + 1].append((at, "high"))
+    for place in ends:
+        chance.shuffle(place)
+    bases = [turnable(chance, len(place), steps) for place in ends]
+    boundaries = []
+    for index in range(1, count):
+        plain = [[pieces[at][1] if (end, other) == ("high", (at, "low")) else 0 for other in ends[index - 1]]
+                 for at, end in ends[index]]
+        width = len(ends[index - 1])
+        boundaries.append(multiplied(multiplied(bases[index][0], plain, width), bases[index - 1][1], width))
+    return Complex(low, [len(place) for place in ends], boundaries)
+
+
+def random_pieces(chance, low, count, many, sizes=(0, 0, 1, 1, 2, 3, 4, 6), most=12):
+    """Some pieces whose ends are among `count` degrees from `low` on, so few that no rank is above `most`."""
+    ranks, found = [0] * count, []
+    for _ in range(many if count else 0):
+        n, s = low + chance.randrange(count), chance.choice(sizes)
+        ends = [n - low] if s == 0 else [n - low, n - low + 1]
+        if ends[-1] < count and all(ranks[end] < most for end in ends):
+            found.append((n, s))
+            for end in ends:
+                ranks[end] += 1
+    return found
+
+
+def some_complexes(chance, count):
+    """Pairs of a complex in some bases and its pieces."""
+    for _ in range(count):
+        low, degrees = chance.randint(-3, 3), chance.randint(0, 5)
+        pieces = random_pieces(chance, low, degrees, chance.randint(0, 9), most=5)
+        yield pieced(chance, low, degrees, pieces), chained_pieces(pieces)

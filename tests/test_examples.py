@@ -84,6 +84,34 @@ True
 >>> hom_of(cyclic_group(4), cyclic_group(6), (1,)).value((1,))
 (3,)
 """,
+    "sixes": """
+>>> from cyclebounds.ext import ext_class, ext_group, extension_of
+>>> from cyclebounds.group import cyclic_group
+>>> ext_group(cyclic_group(4), cyclic_group(6)).order()
+2
+
+>>> x = extension_of(cyclic_group(2), cyclic_group(2), (1,))
+>>> x.middle().invariants()
+((4,), 0)
+
+>>> ext_class(x)
+(1,)
+
+>>> from cyclebounds.ext import middles
+>>> from cyclebounds.group import cyclic_group
+>>> middles(cyclic_group(3), cyclic_group(3))
+((((3, 3), 0), 1), (((9,), 0), 2))
+""",
+    "homology": """
+>>> from cyclebounds.complexes import Complex
+>>> from cyclebounds.homology import homology
+>>> c = Complex(0, (1, 1, 1), (((0,),), ((2,),)))
+>>> homology(c, 1).invariants()
+((2,), 0)
+
+>>> str(c)
+'0: 1 1 1; 0; 2'
+""",
 }
 
 

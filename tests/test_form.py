@@ -15,11 +15,11 @@ NODES = (
     ast.Slice, ast.Constant, ast.Tuple, ast.List, ast.Dict, ast.Call, ast.keyword, ast.BinOp, ast.BoolOp, ast.UnaryOp,
     ast.Compare, ast.IfExp, ast.ListComp, ast.comprehension, ast.JoinedStr, ast.FormattedValue, ast.Load, ast.Store,
     ast.Add, ast.Sub, ast.Mult, ast.FloorDiv, ast.Mod, ast.USub, ast.And, ast.Or, ast.Not, ast.Eq, ast.NotEq, ast.Lt,
-    ast.LtE, ast.Gt, ast.GtE, ast.In, ast.NotIn, ast.Is, ast.IsNot,
+    ast.LtE, ast.Gt, ast.GtE, ast.In, ast.NotIn, ast.Is, ast.IsNot, ast.Try, ast.ExceptHandler,
 )
 BUILTINS = ("len", "range", "enumerate", "zip", "min", "max", "sum", "abs", "sorted", "reversed", "int", "str", "bool",
             "list", "tuple", "dict", "isinstance", "any", "all", "ValueError", "TypeError")
-METHODS = ("append", "isascii", "isdigit", "join", "partition", "split", "startswith")
+METHODS = ("append", "get", "isascii", "isdigit", "items", "join", "partition", "split", "startswith")
 METHODS_OF_OWN = ("__init__", "__eq__", "__str__", "__add__", "__sub__", "__neg__")
 WORDS = ("type", "typing", "enum", "dataclass", "overload", "contextmanager", "elements", "open", "input", "law",
          "register", "mro", "eval", "exec", "compile", "getattr", "setattr", "vars", "dir", "id", "super")
@@ -100,6 +100,8 @@ class Form(unittest.TestCase):
         own = {node.name for _, tree in trees() for node in functions(tree)}
         for path, tree in trees():
             for node in ast.walk(tree):
+                if isinstance(node, ast.ExceptHandler):
+                    self.assertEqual(node.type.id, "Fault", path)
                 if isinstance(node, ast.Name) and is_builtin(node.id):
                     self.assertIn(node.id, BUILTINS, path)
                 if isinstance(node, ast.Call) and isinstance(node.func, ast.Attribute):

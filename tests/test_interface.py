@@ -32,6 +32,16 @@ FUNCTIONS = {
     "tensor": (
         "tensor_group(a, b)", "tensor_of(a, b, x, y)", "tensor_map(f, g)", "hom_group(a, b)", "hom_into(a, b)",
         "hom_of(a, b, x)", "hom_row(f)", "hom_map(f, g)", "tor_group(a, b)", "tor_into(a, b)", "tor_map(f, b)"),
+    "extension": (
+        "section(x)", "split_bar(x)", "alike(x, y)", "pulled(x, f)", "pushed(x, g)", "baer_sum(x, y)"),
+    "ext": (
+        "ext_group(a, b)", "ext_class(x)", "extension_of(a, b, c)", "ext_pulled(f, b)", "ext_pushed(a, g)",
+        "middles(a, b)"),
+    "sixes": ("six_out(x, g)", "six_in(g, x)", "six_tensor(x, g)"),
+    "complexes": ("read_complex(text)", "moved_by(c, k)", "dual(c)", "sum_of_complexes(a, b)"),
+    "homology": (
+        "cycles(c, n)", "boundaries(c, n)", "homology(c, n)", "is_cycle(c, n, value)", "class_of(c, n, z)",
+        "cycle_of(c, n, x)", "filling(c, n, z)", "filling_bar(c, n, z)"),
 }
 
 CLASSES = {
@@ -50,6 +60,10 @@ CLASSES = {
         "__init__(self, source, target, matrix)", "value(self, x)", "__eq__(self, other)", "__add__(self, other)",
         "__sub__(self, other)", "__neg__(self)", "scaled(self, k)", "then(self, g)", "kernel(self)", "image(self)",
         "is_zero(self)", "is_one_to_one(self)", "is_onto(self)", "inverse(self)"),
+    ("extension", "Extension"): ("__init__(self, i, p)", "first(self)", "middle(self)", "last(self)"),
+    ("complexes", "Complex"): (
+        "__init__(self, low, ranks, boundaries)", "rank(self, n)", "boundary(self, n)", "degrees(self)",
+        "is_row(self, n, value)", "turned(self, n, x)", "__eq__(self, other)", "__str__(self)", "euler(self)"),
 }
 
 

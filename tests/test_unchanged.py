@@ -3,7 +3,10 @@
 import copy
 
 from tests.helper import Case, snapshot
-from cyclebounds import build, exact, group, maps, rows, smith, subgroup, tensor, whole
+from cyclebounds import (
+    build, complexes, exact, ext, extension, group, homology, maps, rows, sixes, smith, subgroup, tensor, whole)
+from cyclebounds.complexes import Complex
+from cyclebounds.extension import Extension
 from cyclebounds.group import Group, cyclic_group, read_group
 from cyclebounds.maps import Map, identity_map
 from cyclebounds.subgroup import Subgroup
@@ -16,6 +19,10 @@ F = Map(A, B, [[2], [2]])
 G = Map(B, A, [[0, 3]])
 PART = Subgroup(A, [[1, 1]])
 OTHER = Subgroup(A, [[0, 2]])
+X = ext.extension_of(B, A, (1, 2))
+Y = ext.extension_of(B, A, (3, 0))
+C = Complex(-1, [2, 2, 1], [[[1, -1], [2, -2]], [[-2, 1]]])
+D = Complex(0, (1, 1), (((2,),),))
 
 CALLS = (
     (whole.is_integer, 3), (whole.common_divisor, [4, -6]), (whole.combination, 4, -6),
@@ -45,6 +52,18 @@ CALLS = (
     (tensor.tensor_group, A, B), (tensor.tensor_of, A, B, (1, 2), (3,)), (tensor.tensor_map, F, G),
     (tensor.hom_group, A, B), (tensor.hom_into, A, B), (tensor.hom_of, A, B, (1, 1)), (tensor.hom_row, F),
     (tensor.hom_map, F, G), (tensor.tor_group, A, B), (tensor.tor_into, A, B), (tensor.tor_map, F, B),
+    (Extension, X.i, X.p), (X.first,), (X.middle,), (X.last,), (extension.section, X), (extension.split_bar, X),
+    (extension.alike, X, Y), (extension.alike, X, X), (extension.pulled, X, F), (extension.pushed, X, F),
+    (extension.baer_sum, X, Y),
+    (ext.ext_group, A, B), (ext.ext_class, X), (ext.extension_of, B, A, (1, 2)), (ext.ext_pulled, F, A),
+    (ext.ext_pushed, B, F), (ext.middles, A, B), (sixes.six_out, X, B), (sixes.six_in, B, X), (sixes.six_tensor, X, B),
+    (Complex, -1, [2, 2, 1], [[[1, -1], [2, -2]], [[-2, 1]]]), (C.rank, 1), (C.boundary, 0), (C.degrees,),
+    (C.is_row, 1, [3]), (C.turned, 0, (1, 2)), (C.euler,), (str, C), (C.__eq__, D),
+    (complexes.read_complex, "0: 2 1; 1 -1"), (complexes.moved_by, C, 3), (complexes.dual, C),
+    (complexes.sum_of_complexes, C, D),
+    (homology.cycles, C, 0), (homology.boundaries, C, 0), (homology.homology, C, 0), (homology.is_cycle, C, 0, [2, -1]),
+    (homology.class_of, C, 0, (-4, 2)), (homology.cycle_of, C, 0, (3,)), (homology.filling, C, 0, (2, -1)),
+    (homology.filling_bar, C, -1, (1, 0)),
 )
 
 
@@ -52,7 +71,7 @@ class Unchanged(Case):
     def test_arguments_stay_and_answers_are_equal(self):
         for call, *args in CALLS:
             # A method's own object counts among what it is handed.
-            held = [args, getattr(call, "__self__", None), A, B, F, G, PART, OTHER, TABLE]
+            held = [args, getattr(call, "__self__", None), A, B, F, G, PART, OTHER, TABLE, X, Y, C, D]
             before = snapshot(held)
             first = call(*args)
             self.assertEqual(snapshot(held), before, call)
