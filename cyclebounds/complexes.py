@@ -58,9 +58,7 @@ class Complex:
         return self.low == other.low and self.ranks == other.ranks and self.boundaries == other.boundaries
 
     def __str__(self):
-        head = "".join([f" {rank}" for rank in self.ranks])
-        tail = "".join([f"; {matrix_text(rows)}" for rows in self.boundaries])
-        return f"{self.low}:{head}{tail}"
+        return f"{self.low}:{ranks_text(self.ranks)}{boundaries_text(self.boundaries)}"
 
 
 def are_ranks(value):
@@ -83,6 +81,16 @@ def are_closed(boundaries, ranks):
         if times(high, low, width) != zero_matrix(len(high), width):
             return False
     return True
+
+
+def ranks_text(ranks):
+    """Return the text of the ranks, each behind a space."""
+    return "".join([f" {rank}" for rank in ranks])
+
+
+def boundaries_text(boundaries):
+    """Return the text of the boundaries, each behind a semicolon and a space."""
+    return "".join([f"; {matrix_text(rows)}" for rows in boundaries])
 
 
 def matrix_text(rows):

@@ -2,9 +2,9 @@
 
 from cyclebounds.ext import class_rows, ext_group, ext_pulled, ext_pushed
 from cyclebounds.maps import Map, identity_map
-from cyclebounds.rows import joined, times, transposed, unit_matrix
-from cyclebounds.tensor import hom_group, hom_into, hom_map, hom_of, products, relation_multiples
-from cyclebounds.tensor import tensor_group, tensor_map, tor_into, tor_map
+from cyclebounds.rows import joined, parted, times, transposed, unit_matrix
+from cyclebounds.tensor import hom_into, hom_map, products, relation_multiples, tensor_group, tensor_map
+from cyclebounds.tensor import tor_into, tor_map
 
 
 def six_out(x, g):
@@ -29,11 +29,10 @@ def six_in(g, x):
 
 def connecting_in(g, x):
     """Return the map that takes h, from g to A, to the class of the extension that h gives."""
-    source = hom_group(g, x.last())
-    rows = class_rows(x)
-    maps = [hom_of(g, x.last(), row) for row in unit_matrix(source.n)]
+    into, rows = hom_into(g, x.last()), class_rows(x)
+    maps = [Map(g, x.last(), parted(row, g.n, x.last().n)) for row in into.matrix]
     images = [joined(times(relation_multiples(h), rows, x.first().n)) for h in maps]
-    return Map(source, ext_group(g, x.first()), images)
+    return Map(into.source, ext_group(g, x.first()), images)
 
 
 def six_tensor(x, g):

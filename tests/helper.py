@@ -5,6 +5,7 @@ import math
 import random
 import unittest
 
+from cyclebounds.chain import ChainMap, identity_chain
 from cyclebounds.complexes import Complex
 from cyclebounds.errors import Fault, Malformed, NoText, Refused
 from cyclebounds.extension import Extension
@@ -30,6 +31,7 @@ ODD = (
     deep(59), deep(58), cyclic_group(3), free_group(2), whole(cyclic_group(2)), identity_map(cyclic_group(2)),
     (cyclic_group(2), 1), [identity_map(free_group(1))], Refused("large"), NoText(0), Complex(0, (1, 1), (((2,),),)),
     [Complex(1, (), ())], Extension(identity_map(cyclic_group(2)), zero_map(cyclic_group(2), free_group(0))),
+    identity_chain(Complex(0, (1,), ())), (identity_chain(Complex(2, (), ())),),
 )
 
 
@@ -95,7 +97,7 @@ def snapshot(value):
         return (type(value).__name__,) + tuple(snapshot(item) for item in value)
     if isinstance(value, dict):
         return ("dict",) + tuple((snapshot(key), snapshot(item)) for key, item in value.items())
-    if isinstance(value, (Group, Subgroup, Map, Extension, Complex)):
+    if isinstance(value, (Group, Subgroup, Map, Extension, Complex, ChainMap)):
         return (type(value).__name__,) + tuple((key, snapshot(item)) for key, item in sorted(vars(value).items()))
     return (type(value).__name__, value)
 
@@ -185,23 +187,38 @@ def chained_pieces(pieces):
     return tuple(found)
 
 
+class Pieced:
+    """A complex with some pieces in some other bases, `count` degrees from `low` on.
+
+    `ends` tells, degree by degree, which ends of which pieces the plain basis has; `bases` are pairs of
+    a turnable matrix, whose rows are the basis of the complex, and its inverse.
+    """
+
+    def __init__(self, chance, low, count, pieces, steps=6):
+        self.low, self.pieces = low, tuple(pieces)
+        self.ends = [[] for _ in range(count)]
+        for at, (n, s) in enumerate(pieces):
+            self.ends[n - low].append((at, "low"))
+            if s > 0:
+                self.ends[n - low + 1].append((at, "high"))
+        for place in self.ends:
+            chance.shuffle(place)
+        self.bases = [turnable(chance, len(place), steps) for place in self.ends]
+        boundaries = [self.in_bases(index, self.plain(index), self, index - 1) for index in range(1, count)]
+        self.complex = Complex(low, [len(place) for place in self.ends], boundaries)
+
+    def plain(self, index):
+        return [[self.pieces[at][1] if (end, other) == ("high", (at, "low")) else 0 for other in self.ends[index - 1]]
+                for at, end in self.ends[index]]
+
+    def in_bases(self, index, rows, other, place):
+        """A matrix from the plain basis of a degree to that of another one, in the bases of both."""
+        width = len(other.ends[place])
+        return multiplied(multiplied(self.bases[index][0], rows, width), other.bases[place][1], width)
+
+
 def pieced(chance, low, count, pieces, steps=6):
-    """The complex with these pieces in some other bases, `count` degrees from `low` on."""
-    ends = [[] for _ in range(count)]
-    for at, (n, s) in enumerate(pieces):
-        ends[n - low].append((at, "low"))
-        if s > 0:
-            ends[n - low + 1].append((at, "high"))
-    for place in ends:
-        chance.shuffle(place)
-    bases = [turnable(chance, len(place), steps) for place in ends]
-    boundaries = []
-    for index in range(1, count):
-        plain = [[pieces[at][1] if (end, other) == ("high", (at, "low")) else 0 for other in ends[index - 1]]
-                 for at, end in ends[index]]
-        width = len(ends[index - 1])
-        boundaries.append(multiplied(multiplied(bases[index][0], plain, width), bases[index - 1][1], width))
-    return Complex(low, [len(place) for place in ends], boundaries)
+    return Pieced(chance, low, count, pieces, steps).complex
 
 
 def random_pieces(chance, low, count, many, sizes=(0, 0, 1, 1, 2, 3, 4, 6), most=12):
@@ -223,3 +240,65 @@ def some_complexes(chance, count):
         low, degrees = chance.randint(-3, 3), chance.randint(0, 5)
         pieces = random_pieces(chance, low, degrees, chance.randint(0, 9), most=5)
         yield pieced(chance, low, degrees, pieces), chained_pieces(pieces)
+
+
+def piece_map(chance, piece, other):
+    """The items of some chain map from a piece to a piece: a dict from pairs of ends to integers."""
+    (n, s), (m, t), k = piece, other, chance.randint(-2, 2)
+    if n == m and s == 0:
+        return {("low", "low"): k}
+    if n == m and t > 0:
+        common = math.gcd(s, t)
+        return {("low", "low"): k * t // common, ("high", "high"): k * s // common}
+    return {("high", "low"): k} if m == n + 1 and s > 0 else {}
+
+
+def bounding_matrices(chance, c, d, most):
+    """Some matrices m, from each degree of c to the next one of d, and the matrices of d m + m d."""
+    moves = tuple(random_rows(chance, c.rank(n), d.rank(n + 1), most) for n in c.degrees())
+    found = []
+    for index, n in enumerate(c.degrees()):
+        width = d.rank(n)
+        ahead = multiplied(moves[index], d.boundary(n + 1), width)
+        below = multiplied(c.boundary(n), moves[index - 1], width) if index else [[0] * width for _ in ahead]
+        found.append(added(ahead, below))
+    return moves, tuple(found)
+
+
+def added(one, two):
+    return tuple(tuple(a + b for a, b in zip(v, w)) for v, w in zip(one, two))
+
+
+def chain_matrices(chance, one, two, bounding=1):
+    """The matrices of some chain map between two Pieced complexes, with items of a homotopy up to `bounding`."""
+    table = {(at, place): piece_map(chance, piece, other)
+             for at, piece in enumerate(one.pieces) for place, other in enumerate(two.pieces)}
+    found = []
+    for index, n in enumerate(one.complex.degrees()):
+        place, rows = n - two.low, [[] for _ in one.ends[index]]
+        if 0 <= place < len(two.ends):
+            plain = [[table[at, to].get((end, role), 0) for to, role in two.ends[place]] for at, end in one.ends[index]]
+            rows = one.in_bases(index, plain, two, place)
+        found.append(rows)
+    _, more = bounding_matrices(chance, one.complex, two.complex, bounding)
+    return tuple(added(rows, others) for rows, others in zip(found, more))
+
+
+def some_pieced(chance, count, degrees=5, many=7, most=5):
+    """Pieced complexes of a few degrees near 0."""
+    for _ in range(count):
+        low, length = chance.randint(-2, 2), chance.randint(0, degrees)
+        yield Pieced(chance, low, length, random_pieces(chance, low, length, chance.randint(0, many), most=most))
+
+
+def some_chain_maps(chance, count, bounding=1):
+    """Chain maps between small complexes, some of them from one to itself."""
+    found = list(some_pieced(chance, count + 1))
+    for at, (one, two) in enumerate(zip(found, found[1:])):
+        two = one if at % 3 == 0 else two
+        yield ChainMap(one.complex, two.complex, chain_matrices(chance, one, two, bounding))
+
+
+def items_of(f):
+    """All items of the matrices of a chain map."""
+    return [item for rows in f.matrices for row in rows for item in row]

@@ -102,15 +102,35 @@ True
 >>> middles(cyclic_group(3), cyclic_group(3))
 ((((3, 3), 0), 1), (((9,), 0), 2))
 """,
-    "homology": """
+    "standard": """
 >>> from cyclebounds.complexes import Complex
 >>> from cyclebounds.homology import homology
 >>> c = Complex(0, (1, 1, 1), (((0,),), ((2,),)))
 >>> homology(c, 1).invariants()
 ((2,), 0)
 
+>>> from cyclebounds.standard import pieces
+>>> pieces(c)
+((0, 0), (1, 2))
+
 >>> str(c)
 '0: 1 1 1; 0; 2'
+""",
+    "classes": """
+>>> from cyclebounds.chain import ChainMap, zero_chain
+>>> from cyclebounds.complexes import Complex
+>>> from cyclebounds.homotopy import homotopy
+>>> c = Complex(0, (1, 1), (((2,),),))
+>>> f = ChainMap(c, c, (((2,),), ((2,),)))
+>>> homotopy(f, zero_chain(c, c))
+(((1,),), ((),))
+
+>>> from cyclebounds.chain import ChainMap, zero_chain
+>>> from cyclebounds.complexes import Complex
+>>> from cyclebounds.homotopy import homotopy
+>>> c, d = Complex(0, (1, 1), (((2,),),)), Complex(1, (1,), ())
+>>> homotopy(ChainMap(c, d, (((),), ((1,),))), zero_chain(c, d)) is None
+True
 """,
 }
 

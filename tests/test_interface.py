@@ -42,6 +42,12 @@ FUNCTIONS = {
     "homology": (
         "cycles(c, n)", "boundaries(c, n)", "homology(c, n)", "is_cycle(c, n, value)", "class_of(c, n, z)",
         "cycle_of(c, n, x)", "filling(c, n, z)", "filling_bar(c, n, z)"),
+    "standard": ("pieces(c)", "standard_complex(c)", "standard(c)", "same_homology(a, b)"),
+    "chain": ("identity_chain(c)", "zero_chain(c, d)"),
+    "homotopy": ("is_homotopy(f, g, value)", "homotopy(f, g)", "homotopy_bar(f, g)", "contraction(c)"),
+    "cone": (
+        "cone(f)", "into_cone(f)", "out_of_cone(f)", "is_equivalence(f)", "equivalence_of(f)", "equivalence(a, b)"),
+    "classes": ("maps_group(c, d)", "class_of_map(f)", "map_of_class(c, d, x)"),
 }
 
 CLASSES = {
@@ -64,6 +70,10 @@ CLASSES = {
     ("complexes", "Complex"): (
         "__init__(self, low, ranks, boundaries)", "rank(self, n)", "boundary(self, n)", "degrees(self)",
         "is_row(self, n, value)", "turned(self, n, x)", "__eq__(self, other)", "__str__(self)", "euler(self)"),
+    ("chain", "ChainMap"): (
+        "__init__(self, source, target, matrices)", "matrix(self, n)", "value(self, n, x)", "__add__(self, other)",
+        "__sub__(self, other)", "__neg__(self)", "scaled(self, c)", "then(self, g)", "__eq__(self, other)",
+        "induced(self, n)"),
 }
 
 

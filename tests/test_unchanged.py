@@ -4,7 +4,9 @@ import copy
 
 from tests.helper import Case, snapshot
 from cyclebounds import (
-    build, complexes, exact, ext, extension, group, homology, maps, rows, sixes, smith, subgroup, tensor, whole)
+    build, chain, classes, complexes, cone, exact, ext, extension, group, homology, homotopy, maps, rows, sixes, smith,
+    standard, subgroup, tensor, whole)
+from cyclebounds.chain import ChainMap
 from cyclebounds.complexes import Complex
 from cyclebounds.extension import Extension
 from cyclebounds.group import Group, cyclic_group, read_group
@@ -23,6 +25,9 @@ X = ext.extension_of(B, A, (1, 2))
 Y = ext.extension_of(B, A, (3, 0))
 C = Complex(-1, [2, 2, 1], [[[1, -1], [2, -2]], [[-2, 1]]])
 D = Complex(0, (1, 1), (((2,),),))
+K = ChainMap(D, C, [[[0, 0]], [[0]]])
+L = ChainMap(D, D, [[[3]], [[3]]])
+M = ChainMap(D, D, (((1,),), ((1,),)))
 
 CALLS = (
     (whole.is_integer, 3), (whole.common_divisor, [4, -6]), (whole.combination, 4, -6),
@@ -64,6 +69,15 @@ CALLS = (
     (homology.cycles, C, 0), (homology.boundaries, C, 0), (homology.homology, C, 0), (homology.is_cycle, C, 0, [2, -1]),
     (homology.class_of, C, 0, (-4, 2)), (homology.cycle_of, C, 0, (3,)), (homology.filling, C, 0, (2, -1)),
     (homology.filling_bar, C, -1, (1, 0)),
+    (standard.pieces, C), (standard.standard_complex, C), (standard.standard, C), (standard.same_homology, C, D),
+    (ChainMap, D, C, [[[0, 0]], [[0]]]), (K.matrix, 1), (K.value, 0, (2,)), (K.__eq__, L), (L.__add__, M),
+    (L.__sub__, M), (L.__neg__,), (L.scaled, 3), (L.then, K), (L.induced, 0),
+    (chain.identity_chain, C), (chain.zero_chain, C, D),
+    (homotopy.is_homotopy, L, M, [[[1]], [[]]]), (homotopy.is_homotopy, L, M, (((1,),), ((),))),
+    (homotopy.homotopy, L, M), (homotopy.homotopy_bar, L, M), (homotopy.homotopy_bar, L, M.scaled(2)),
+    (homotopy.contraction, C), (cone.cone, L), (cone.into_cone, L), (cone.out_of_cone, L), (cone.is_equivalence, L),
+    (cone.equivalence_of, L), (cone.equivalence, D, D), (classes.maps_group, C, D), (classes.class_of_map, L),
+    (classes.map_of_class, D, D, (5,)),
 )
 
 
@@ -71,7 +85,7 @@ class Unchanged(Case):
     def test_arguments_stay_and_answers_are_equal(self):
         for call, *args in CALLS:
             # A method's own object counts among what it is handed.
-            held = [args, getattr(call, "__self__", None), A, B, F, G, PART, OTHER, TABLE, X, Y, C, D]
+            held = [args, getattr(call, "__self__", None), A, B, F, G, PART, OTHER, TABLE, X, Y, C, D, K, L, M]
             before = snapshot(held)
             first = call(*args)
             self.assertEqual(snapshot(held), before, call)
