@@ -42,7 +42,6 @@ def extension_of(a, b, c):
 
 def middle_of(a, b, c):
     """Return the middle of the extension of a by b that the row c gives."""
-    check_sum((a, b))
     tails = parted(scaled(c, -1), len(a.relations), b.n)
     ahead = [row + tail for row, tail in zip(a.relations, tails)]
     return Group(a.n + b.n, ahead + [(0,) * a.n + row for row in b.relations])

@@ -102,6 +102,8 @@ class Making(Case):
             self.assertFalse(f == other)
             self.assertTrue(f != other)
         self.assertFalse(zero_chain(TWO, Complex(5, (), ())) == zero_chain(TWO, Complex(6, (), ())))
+        self.assertFalse(zero_chain(TWO, TWO) == zero_chain(ZERO, TWO))
+        self.assertFalse(zero_chain(TWO, TWO) == zero_chain(TWO, ZERO))
         for value in ODD:
             self.assertIs(f == value, False)
 

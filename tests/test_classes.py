@@ -11,7 +11,7 @@ from cyclebounds.group import Group, are_isomorphic
 from cyclebounds.homology import homology
 from cyclebounds.homotopy import homotopy
 from cyclebounds.maps import standard_group
-from cyclebounds.rows import add, scaled, unit_row
+from cyclebounds.rows import add, scaled, unit_matrix, unit_row
 from cyclebounds.standard import pieces
 from cyclebounds.tensor import hom_group
 
@@ -143,6 +143,16 @@ class Large(Case):
             self.refused("large", class_of_map, zero_chain(c, wide))
             for x in ((), None, (0,) * product_of_ranks(c, wide), "a"):
                 self.refused("large", map_of_class, c, wide, x)
+
+    def test_few_chain_maps_among_many_matrices(self):
+        # The two matrices of a chain map are equal here, so there are 25 generators; 50 items are too many.
+        c = Complex(0, (5, 5), (unit_matrix(5),))
+        self.refused("large", maps_group, c, c)
+        self.refused("large", class_of_map, identity_chain(c))
+        self.refused("large", map_of_class, c, c, (0,) * 25)
+        self.refused("large", map_of_class, c, c, None)
+        d = Complex(0, (4, 4), (unit_matrix(4),))
+        self.assertEqual(maps_group(c, d)[0].order(), 1)
 
     def test_degrees_without_overlap_do_not_count(self):
         c, d = zeros(0, (12, 0) * 4), zeros(0, (0, 12) * 4)

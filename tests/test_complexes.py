@@ -94,6 +94,8 @@ class Making(Case):
             self.assertFalse(ROUND == other)
             self.assertTrue(ROUND != other)
         self.assertFalse(Complex(0, (), ()) == Complex(1, (), ()))
+        self.assertFalse(Complex(0, (1,), ()) == Complex(0, (2,), ()))
+        self.assertFalse(Complex(0, (1, 0), ((),)) == Complex(0, (2, 0), ((),)))
         for value in ODD:
             self.assertIs(ROUND == value, False)
 

@@ -296,3 +296,5 @@ class NewOnes(Case):
         self.refused("large", baer_sum, x, y)
         self.refused("large", baer_sum, y, x)
         self.malformed(baer_sum, y, Extension(zero_map(Group(0), more), identity_map(more)))
+        self.malformed(baer_sum, x, extension_of(half, Group(1), ()))
+        self.malformed(baer_sum, extension_of(half, Group(1), ()), y)
