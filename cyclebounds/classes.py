@@ -43,14 +43,23 @@ def all_chain_maps(c, d):
     return kernel(steps(c, d, 0, -1), sum(sizes_of_matrices(c, d, -1)))
 
 
+def parted_by_degrees(c, d, k, row):
+    """Return the matrices, from each degree n of c to the degree n + k of d, that stand in a row."""
+    matrices = []
+    for n, size in zip(c.degrees(), sizes_of_matrices(c, d, k)):
+        matrices.append(parted(row[:size], c.rank(n), d.rank(n + k)))
+        row = row[size:]
+    return tuple(matrices)
+
+
+def row_of_all(matrices):
+    """Return the row of the items of some matrices, row by row."""
+    return joined([joined(rows) for rows in matrices])
+
+
 def map_of_row(c, d, row):
     """Return the chain map with a row."""
-    matrices = []
-    for n in c.degrees():
-        size = c.rank(n) * d.rank(n)
-        matrices.append(parted(row[:size], c.rank(n), d.rank(n)))
-        row = row[size:]
-    return ChainMap(c, d, matrices)
+    return ChainMap(c, d, parted_by_degrees(c, d, 0, row))
 
 
 def classes_by(table, c, d):
@@ -71,8 +80,7 @@ def class_of_map(f):
     c, d = f.source, f.target
     check_sizes(c, d)
     table = all_chain_maps(c, d)
-    row = joined([joined(rows) for rows in f.matrices])
-    return classes_by(table, c, d).normal(coordinates(table, row))
+    return classes_by(table, c, d).normal(coordinates(table, row_of_all(f.matrices)))
 
 
 def map_of_class(c, d, x):

@@ -3,7 +3,7 @@
 from cyclebounds.errors import Fault, Malformed, NoText, Refused
 from cyclebounds.group import MOST_SIGNS
 from cyclebounds.rows import are_rows, as_table, is_row, moved, scaled_rows, times, transposed, zero_matrix
-from cyclebounds.whole import is_integer, is_natural, read_integer
+from cyclebounds.whole import is_integer, is_natural, read_integer, sign_of
 
 MOST_DEGREE = 20
 MOST_DEGREES = 8
@@ -16,8 +16,7 @@ class Complex:
     def __init__(self, low, ranks, boundaries):
         if not is_integer(low) or not are_ranks(ranks) or not are_matrices(boundaries, ranks[1:], ranks):
             raise Malformed("a complex is a degree, a list of ranks and a list of the matrices between them")
-        if abs(low) > MOST_DEGREE or len(ranks) > MOST_DEGREES or max([0] + list(ranks)) > MOST_RANK:
-            raise Refused("large")
+        check_ranks(low, ranks)
         self.low = low
         self.ranks = tuple(ranks)
         self.boundaries = tuple([as_table(rows) for rows in boundaries])
@@ -50,7 +49,7 @@ class Complex:
 
     def euler(self):
         """Return the sum of the ranks in even degrees less that of the ranks in odd degrees."""
-        return sum([self.rank(n) if n % 2 == 0 else -self.rank(n) for n in self.degrees()])
+        return sum([sign_of(n) * self.rank(n) for n in self.degrees()])
 
     def __eq__(self, other):
         if not isinstance(other, Complex):
@@ -59,6 +58,12 @@ class Complex:
 
     def __str__(self):
         return f"{self.low}:{ranks_text(self.ranks)}{boundaries_text(self.boundaries)}"
+
+
+def check_ranks(low, ranks):
+    """Refuse a complex with this lowest degree and these ranks if it would be too large."""
+    if abs(low) > MOST_DEGREE or len(ranks) > MOST_DEGREES or max([0] + list(ranks)) > MOST_RANK:
+        raise Refused("large")
 
 
 def are_ranks(value):
@@ -133,8 +138,7 @@ def read_row(text):
 
 def moved_by(c, k):
     """Return the complex that has in each degree n what c has in n - k."""
-    sign = 1 if k % 2 == 0 else -1
-    return Complex(c.low + k, c.ranks, [scaled_rows(rows, sign) for rows in c.boundaries])
+    return Complex(c.low + k, c.ranks, [scaled_rows(rows, sign_of(k)) for rows in c.boundaries])
 
 
 def dual(c):

@@ -13,6 +13,11 @@ def is_natural(value):
     return is_integer(value) and value >= 0
 
 
+def sign_of(k):
+    """Return 1 for an even integer and -1 for an odd one."""
+    return 1 if k % 2 == 0 else -1
+
+
 def common_divisor(numbers):
     """Return the greatest integer from 0 on that divides all numbers."""
     found = 0

@@ -9,7 +9,9 @@ from cyclebounds.chain import ChainMap, identity_chain
 from cyclebounds.complexes import Complex
 from cyclebounds.errors import Fault, Malformed, NoText, Refused
 from cyclebounds.extension import Extension
+from cyclebounds.filtered import Filtered
 from cyclebounds.group import Group, cyclic_group, free_group
+from cyclebounds.long import ShortRow, cone_row
 from cyclebounds.maps import Map, identity_map, zero_map
 from cyclebounds.subgroup import Subgroup, whole
 
@@ -32,6 +34,7 @@ ODD = (
     (cyclic_group(2), 1), [identity_map(free_group(1))], Refused("large"), NoText(0), Complex(0, (1, 1), (((2,),),)),
     [Complex(1, (), ())], Extension(identity_map(cyclic_group(2)), zero_map(cyclic_group(2), free_group(0))),
     identity_chain(Complex(0, (1,), ())), (identity_chain(Complex(2, (), ())),),
+    cone_row(identity_chain(Complex(0, (1,), ()))), Filtered(Complex(0, (1,), ()), ((3,),)),
 )
 
 
@@ -97,7 +100,7 @@ def snapshot(value):
         return (type(value).__name__,) + tuple(snapshot(item) for item in value)
     if isinstance(value, dict):
         return ("dict",) + tuple((snapshot(key), snapshot(item)) for key, item in value.items())
-    if isinstance(value, (Group, Subgroup, Map, Extension, Complex, ChainMap)):
+    if isinstance(value, (Group, Subgroup, Map, Extension, Complex, ChainMap, ShortRow, Filtered)):
         return (type(value).__name__,) + tuple((key, snapshot(item)) for key, item in sorted(vars(value).items()))
     return (type(value).__name__, value)
 
@@ -282,6 +285,59 @@ def chain_matrices(chance, one, two, bounding=1):
         found.append(rows)
     _, more = bounding_matrices(chance, one.complex, two.complex, bounding)
     return tuple(added(rows, others) for rows, others in zip(found, more))
+
+
+class Levelled:
+    """A filtered complex with some pieces in some other bases, whose ends have levels.
+
+    The pieces are (n, s, p, q): p is the level of the lower end, q that of the upper one.
+    """
+
+    def __init__(self, chance, low, count, pieces, steps=8):
+        self.pieces = tuple(pieces)
+        ends = [[] for _ in range(count)]
+        for at, (n, s, p, q) in enumerate(pieces):
+            ends[n - low].append((at, "low", p))
+            if s > 0:
+                ends[n - low + 1].append((at, "high", q))
+        for place in ends:
+            chance.shuffle(place)
+        bases = [levelled_turnable(chance, [level for _, _, level in place], steps) for place in ends]
+        boundaries = []
+        for index in range(1, count):
+            plain = [[pieces[at][1] if (end, other[:2]) == ("high", (at, "low")) else 0 for other in ends[index - 1]]
+                     for at, end, _ in ends[index]]
+            width = len(ends[index - 1])
+            boundaries.append(multiplied(multiplied(bases[index][0], plain, width), bases[index - 1][1], width))
+        self.complex = Complex(low, [len(place) for place in ends], boundaries)
+        self.filtered = Filtered(self.complex, [[level for _, _, level in place] for place in ends])
+
+
+def levelled_turnable(chance, levels, steps, most=2):
+    """A turnable matrix that adds to rows multiples of rows of lesser or equal levels, and its inverse."""
+    n = len(levels)
+    rows = [[int(i == j) for j in range(n)] for i in range(n)]
+    back = [list(row) for row in rows]
+    for _ in range(steps if n > 1 else 0):
+        i, j = chance.sample(range(n), 2)
+        if levels[i] < levels[j]:
+            i, j = j, i
+        k = chance.randint(-most, most)
+        rows[i] = [a + k * b for a, b in zip(rows[i], rows[j])]
+        for row in back:
+            row[j] -= k * row[i]
+    return rows, back
+
+
+def some_levelled(chance, count, degrees=4, many=7, most=4, sizes=(0, 1, 2, 3, 4)):
+    """Levelled complexes of a few degrees near 0."""
+    for _ in range(count):
+        low, length, top = chance.randint(-2, 2), chance.randint(0, degrees), chance.randint(0, 9)
+        found = []
+        for n, s in random_pieces(chance, low, length, chance.randint(0, many), sizes, most):
+            levels = sorted(chance.randint(0, top) for _ in range(2))
+            found.append((n, s, levels[0], levels[1]))
+        yield Levelled(chance, low, length, found)
 
 
 def some_pieced(chance, count, degrees=5, many=7, most=5):

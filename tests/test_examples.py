@@ -132,6 +132,20 @@ True
 >>> homotopy(ChainMap(c, d, (((),), ((1,),))), zero_chain(c, d)) is None
 True
 """,
+    "pages": """
+>>> from cyclebounds.complexes import Complex
+>>> from cyclebounds.filtered import Filtered
+>>> from cyclebounds.pages import page, page_map
+>>> f = Filtered(Complex(0, (1, 1), (((2,),),)), ((0,), (2,)))
+>>> page_map(f, 2, 2, 1).matrix
+((2,),)
+
+>>> page(f, 3, 0, 0).relations
+((2,),)
+
+>>> f.steady()
+3
+""",
 }
 
 

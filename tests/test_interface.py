@@ -48,6 +48,18 @@ FUNCTIONS = {
     "cone": (
         "cone(f)", "into_cone(f)", "out_of_cone(f)", "is_equivalence(f)", "equivalence_of(f)", "equivalence(a, b)"),
     "classes": ("maps_group(c, d)", "class_of_map(f)", "map_of_class(c, d, x)"),
+    "long": ("cone_row(f)", "six_groups(f, g, i, j, a, b, c)"),
+    "products": (
+        "tensor_complex(c, d)", "matrix_complex(c, d)", "product_row(c, d, p, x, q, y)",
+        "row_of_matrices(c, d, n, matrices)", "matrices_of_row(c, d, n, row)", "cross_map(c, d, p, q)",
+        "kuenneth(c, d, n)"),
+    "coefficients": (
+        "cycles_modulo(c, m, n)", "homology_modulo(c, m, n)", "class_modulo(c, m, n, z)", "reduction(c, m, n)",
+        "bockstein(c, m, n)", "universal_row(c, m, n)"),
+    "filtered": ("part_of(f, p)",),
+    "pages": (
+        "near_cycles(f, r, p, n)", "near_boundaries(f, r, p, n)", "page(f, r, p, n)", "page_class(f, r, p, n, x)",
+        "page_map(f, r, p, n)", "next_page(f, r, p, n)", "level_part(f, p, n)", "last_page(f, p, n)"),
 }
 
 CLASSES = {
@@ -74,6 +86,8 @@ CLASSES = {
         "__init__(self, source, target, matrices)", "matrix(self, n)", "value(self, n, x)", "__add__(self, other)",
         "__sub__(self, other)", "__neg__(self)", "scaled(self, c)", "then(self, g)", "__eq__(self, other)",
         "induced(self, n)"),
+    ("long", "ShortRow"): ("__init__(self, f, g)", "connecting(self, n)", "long_row(self, high, low)"),
+    ("filtered", "Filtered"): ("__init__(self, c, levels)", "__eq__(self, other)", "steady(self)"),
 }
 
 

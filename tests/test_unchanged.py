@@ -4,12 +4,14 @@ import copy
 
 from tests.helper import Case, snapshot
 from cyclebounds import (
-    build, chain, classes, complexes, cone, exact, ext, extension, group, homology, homotopy, maps, rows, sixes, smith,
-    standard, subgroup, tensor, whole)
+    build, chain, classes, coefficients, complexes, cone, exact, ext, extension, filtered, group, homology, homotopy,
+    long, maps, pages, products, rows, sixes, smith, standard, subgroup, tensor, whole)
 from cyclebounds.chain import ChainMap
 from cyclebounds.complexes import Complex
 from cyclebounds.extension import Extension
+from cyclebounds.filtered import Filtered
 from cyclebounds.group import Group, cyclic_group, read_group
+from cyclebounds.long import ShortRow, cone_row
 from cyclebounds.maps import Map, identity_map
 from cyclebounds.subgroup import Subgroup
 
@@ -28,6 +30,9 @@ D = Complex(0, (1, 1), (((2,),),))
 K = ChainMap(D, C, [[[0, 0]], [[0]]])
 L = ChainMap(D, D, [[[3]], [[3]]])
 M = ChainMap(D, D, (((1,),), ((1,),)))
+R = cone_row(L)
+SEVEN = (X.i, X.p, X.i, X.p, *[identity_map(group).scaled(2) for group in (X.first(), X.middle(), X.last())])
+W = Filtered(C, [[0, 3], [3, 3], [5]])
 
 CALLS = (
     (whole.is_integer, 3), (whole.common_divisor, [4, -6]), (whole.combination, 4, -6),
@@ -78,6 +83,17 @@ CALLS = (
     (homotopy.contraction, C), (cone.cone, L), (cone.into_cone, L), (cone.out_of_cone, L), (cone.is_equivalence, L),
     (cone.equivalence_of, L), (cone.equivalence, D, D), (classes.maps_group, C, D), (classes.class_of_map, L),
     (classes.map_of_class, D, D, (5,)),
+    (ShortRow, R.f, R.g), (R.connecting, 1), (R.long_row, 2, 0), (long.cone_row, L), (long.six_groups, *SEVEN),
+    (products.tensor_complex, C, D), (products.matrix_complex, D, C), (products.product_row, C, D, 0, (1, 2), 1, (3,)),
+    (products.row_of_matrices, D, D, 0, [[[1]], [[2]]]), (products.matrices_of_row, D, D, 0, (1, 2)),
+    (products.cross_map, C, D, 0, 0), (products.kuenneth, D, D, 1),
+    (coefficients.cycles_modulo, C, 2, 0), (coefficients.homology_modulo, C, 2, 0),
+    (coefficients.class_modulo, D, 2, 1, (3,)), (coefficients.reduction, C, 2, 0), (coefficients.bockstein, D, 4, 1),
+    (coefficients.universal_row, D, 4, 1),
+    (Filtered, C, [[0, 3], [3, 3], [5]]), (W.__eq__, W), (W.steady,), (filtered.part_of, W, 3),
+    (pages.near_cycles, W, 1, 3, 0), (pages.near_boundaries, W, 1, 3, 0), (pages.page, W, 1, 3, 0),
+    (pages.page_class, W, 1, 3, 0, (2, -1)), (pages.page_map, W, 2, 5, 1), (pages.next_page, W, 2, 3, 0),
+    (pages.level_part, W, 3, 0), (pages.last_page, W, 3, 0),
 )
 
 
@@ -85,7 +101,7 @@ class Unchanged(Case):
     def test_arguments_stay_and_answers_are_equal(self):
         for call, *args in CALLS:
             # A method's own object counts among what it is handed.
-            held = [args, getattr(call, "__self__", None), A, B, F, G, PART, OTHER, TABLE, X, Y, C, D, K, L, M]
+            held = [args, getattr(call, "__self__", None), A, B, F, G, PART, OTHER, TABLE, X, Y, C, D, K, L, M, R, SEVEN, W]
             before = snapshot(held)
             first = call(*args)
             self.assertEqual(snapshot(held), before, call)
