@@ -4,7 +4,7 @@ from cyclebounds.build import into_pullback, out_of_pushout, pullback, pushout
 from cyclebounds.errors import Malformed, Refused
 from cyclebounds.exact import generator_orders, is_exact, lifted, origins
 from cyclebounds.maps import Map, difference, identity_map, quotient_of, standard_group, zero_map
-from cyclebounds.rows import add, moved, origin_in, scaled, scaled_rows, solutions, times, unit_matrix
+from cyclebounds.rows import add, blend, moved, origin_in, scaled, scaled_rows, solutions, times, unit_matrix
 from cyclebounds.smith import bar
 from cyclebounds.subgroup import Subgroup
 
@@ -81,6 +81,23 @@ def alike(x, y):
     tails = times(origins(x.i, left), y.i.matrix, n)
     rows = [add(v, w) for v, w in zip(times(parts, images, n), tails)]
     return Map(x.middle(), y.middle(), [y.middle().normal(row) for row in rows])
+
+
+def alike_bar(x, y):
+    """Return None if two extensions are alike, otherwise (k, e, e2, b, b2, t, m) as point 11.7 tells."""
+    check_ends(x, y)
+    standard, _, back = standard_group(x.last())
+    orders = generator_orders(standard)
+    ends, roots = chosen_over(x, back.matrix, orders)
+    others, other_roots = chosen_over(y, back.matrix, orders)
+    n, relations = x.first().n, x.first().relations
+    for k, e, e2, b, b2 in zip(orders, ends, others, roots, other_roots):
+        # Other choices change b - b2 by multiples of k.
+        found = bar(relations + scaled_rows(unit_matrix(n), k), n, blend(b, 1, b2, -1))
+        if found is not None:
+            t, m = found
+            return k, e, e2, b, b2, t, m
+    return None
 
 
 def quotients(group, orders, rows):

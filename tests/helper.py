@@ -7,12 +7,14 @@ import unittest
 
 from cyclebounds.chain import ChainMap, identity_chain
 from cyclebounds.complexes import Complex
+from cyclebounds.console import Console
 from cyclebounds.errors import Fault, Malformed, NoText, Refused
 from cyclebounds.extension import Extension
 from cyclebounds.filtered import Filtered
 from cyclebounds.group import Group, cyclic_group, free_group
 from cyclebounds.long import ShortRow, cone_row
 from cyclebounds.maps import Map, identity_map, zero_map
+from cyclebounds.replies import Reply
 from cyclebounds.subgroup import Subgroup, whole
 
 GREAT = 10 ** 60 + 7
@@ -35,6 +37,7 @@ ODD = (
     [Complex(1, (), ())], Extension(identity_map(cyclic_group(2)), zero_map(cyclic_group(2), free_group(0))),
     identity_chain(Complex(0, (1,), ())), (identity_chain(Complex(2, (), ())),),
     cone_row(identity_chain(Complex(0, (1,), ()))), Filtered(Complex(0, (1,), ()), ((3,),)),
+    Reply("done"), ("", Reply("done")), Reply("error", "text", (1,)), Console(), "let c = 0: 1", "> a\n= done \n# ()\n",
 )
 
 
@@ -81,6 +84,50 @@ def plainly_rows(value, n):
                                                 for row in value)
 
 
+def plainly_matrix(value, n, width):
+    """A tuple of n tuples of `width` integers."""
+    return type(value) is tuple and len(value) == n and all(plainly_row(row, width) for row in value)
+
+
+def paths(value, path=()):
+    """The places of all values that a nested tuple has, itself included."""
+    found = [path]
+    if type(value) is tuple:
+        for at, item in enumerate(value):
+            found += paths(item, path + (at,))
+    return found
+
+
+def at_path(value, path):
+    for at in path:
+        value = value[at]
+    return value
+
+
+def put(value, path, new):
+    """The nested tuple with another value at one place."""
+    if not path:
+        return new
+    return value[:path[0]] + (put(value[path[0]], path[1:], new),) + value[path[0] + 1:]
+
+
+def other_values(value):
+    """What may stand in the place of a value that it is not."""
+    if type(value) is tuple:
+        found = [list(value), value[:-1], value[1:], value + (0,), value + value[-1:], (value,), (), None, 0, deep(55)]
+    elif type(value) is int:
+        found = [value + 1, value - 1, -value, 0, 1, 2 * value + 1, value + GREAT, True, False, None, str(value), (value,)]
+    else:
+        found = ["bar", "section", "filling", "apart", "exact", value.upper(), value + " ", None, 1, (value,)]
+    return [new for new in found if type(new) is not type(value) or new != value]
+
+
+def changes(chance, value, most):
+    """Some of the nested tuples that another one becomes if it is changed at one place."""
+    found = [(path, new) for path in paths(value) for new in other_values(at_path(value, path))]
+    return [put(value, path, new) for path, new in chance.sample(found, min(most, len(found)))]
+
+
 def seeded(number):
     return random.Random(number)
 
@@ -94,13 +141,16 @@ def boxes(n, most):
     return itertools.product(range(most), repeat=n)
 
 
+OWN = (Group, Subgroup, Map, Extension, Complex, ChainMap, ShortRow, Filtered, Reply, Console)
+
+
 def snapshot(value):
     """A value as nested tuples that tell its kinds and fields, to see whether it has changed."""
     if isinstance(value, (list, tuple)):
         return (type(value).__name__,) + tuple(snapshot(item) for item in value)
     if isinstance(value, dict):
         return ("dict",) + tuple((snapshot(key), snapshot(item)) for key, item in value.items())
-    if isinstance(value, (Group, Subgroup, Map, Extension, Complex, ChainMap, ShortRow, Filtered)):
+    if isinstance(value, OWN):
         return (type(value).__name__,) + tuple((key, snapshot(item)) for key, item in sorted(vars(value).items()))
     return (type(value).__name__, value)
 

@@ -146,6 +146,24 @@ True
 >>> f.steady()
 3
 """,
+    "console": """
+>>> from cyclebounds.console import Console
+>>> console = Console()
+>>> console.enter("let c = 0: 1 1; 2").text
+'0: 1 1; 2'
+
+>>> console.enter("map f c c = 2; 2").kind
+'map'
+
+>>> console.enter("minus z f f").text
+'0; 0'
+
+>>> console.enter("homotopic f z").text
+'yes'
+
+>>> console.enter("homology c 0").text
+'2; 0'
+""",
 }
 
 

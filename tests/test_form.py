@@ -16,11 +16,14 @@ NODES = (
     ast.Compare, ast.IfExp, ast.ListComp, ast.comprehension, ast.JoinedStr, ast.FormattedValue, ast.Load, ast.Store,
     ast.Add, ast.Sub, ast.Mult, ast.FloorDiv, ast.Mod, ast.USub, ast.And, ast.Or, ast.Not, ast.Eq, ast.NotEq, ast.Lt,
     ast.LtE, ast.Gt, ast.GtE, ast.In, ast.NotIn, ast.Is, ast.IsNot, ast.Try, ast.ExceptHandler,
+    ast.Pow,
 )
 BUILTINS = ("len", "range", "enumerate", "zip", "min", "max", "sum", "abs", "sorted", "reversed", "int", "str", "bool",
-            "list", "tuple", "dict", "isinstance", "any", "all", "ValueError", "TypeError")
-METHODS = ("append", "get", "isascii", "isdigit", "items", "join", "partition", "split", "startswith")
-METHODS_OF_OWN = ("__init__", "__eq__", "__str__", "__add__", "__sub__", "__neg__")
+            "list", "tuple", "dict", "isinstance", "any", "all", "iter", "ValueError", "TypeError")
+METHODS = ("append", "endswith", "get", "isascii", "isdigit", "items", "join", "partition", "pop", "replace", "split",
+           "startswith", "strip")
+METHODS_OF_OWN = ("__init__", "__eq__", "__str__", "__add__", "__sub__", "__neg__", "__len__", "__iter__")
+ERRORS = ("Fault", "Malformed", "NoText", "Refused")
 WORDS = ("type", "typing", "enum", "dataclass", "overload", "contextmanager", "elements", "open", "input", "law",
          "register", "mro", "eval", "exec", "compile", "getattr", "setattr", "vars", "dir", "id", "super")
 
@@ -51,7 +54,13 @@ def is_builtin(name):
 def bound_in(function):
     """The names of the parameters and local variables of a function."""
     stored = [node.id for node in ast.walk(function) if isinstance(node, ast.Name) and isinstance(node.ctx, ast.Store)]
-    return stored + [argument.arg for argument in function.args.args]
+    named = function.args.args + function.args.kwonlyargs
+    return stored + [argument.arg for argument in named] + handled_in(function)
+
+
+def handled_in(function):
+    """The names that handlers in a function give to errors."""
+    return [node.name for node in ast.walk(function) if isinstance(node, ast.ExceptHandler) and node.name]
 
 
 class Form(unittest.TestCase):
@@ -75,6 +84,12 @@ class Form(unittest.TestCase):
                 self.assertFalse(node.decorator_list)
             for node in tree.body[1:]:
                 self.assertIsInstance(node, (ast.ImportFrom, ast.Assign, ast.FunctionDef, ast.ClassDef))
+
+    def test_exponents(self):
+        for path, tree in trees():
+            for node in ast.walk(tree):
+                if isinstance(node, ast.BinOp) and isinstance(node.op, ast.Pow):
+                    self.assertTrue(isinstance(node.right, ast.Constant) and 0 <= node.right.value <= 64, path)
 
     def test_strings(self):
         for path, tree in trees():
@@ -101,7 +116,7 @@ class Form(unittest.TestCase):
         for path, tree in trees():
             for node in ast.walk(tree):
                 if isinstance(node, ast.ExceptHandler):
-                    self.assertEqual(node.type.id, "Fault", path)
+                    self.assertIn(node.type.id, ERRORS, path)
                 if isinstance(node, ast.Name) and is_builtin(node.id):
                     self.assertIn(node.id, BUILTINS, path)
                 if isinstance(node, ast.Call) and isinstance(node.func, ast.Attribute):

@@ -60,6 +60,16 @@ FUNCTIONS = {
     "pages": (
         "near_cycles(f, r, p, n)", "near_boundaries(f, r, p, n)", "page(f, r, p, n)", "page_class(f, r, p, n, x)",
         "page_map(f, r, p, n)", "next_page(f, r, p, n)", "level_part(f, p, n)", "last_page(f, p, n)"),
+    "papers": (
+        "filling_paper(c, n, z)", "homotopy_paper(f, g)", "equivalence_paper(a, b)", "exact_paper(f, g)",
+        "split_paper(extension)", "alike_paper(one, two)"),
+    "checker": (
+        "takes_filling(c, n, z, paper)", "takes_homotopic(f, g, paper)", "takes_equivalent(a, b, paper)",
+        "takes_exact(f, g, paper)", "takes_split(extension, paper)", "takes_alike(one, two, paper)"),
+    "sheet": ("matrices_text(matrices)", "read_matrices(text)", "read_line(line)"),
+    "replies": ("reply_to(names, line)", "defined(names, line)", "is_right(names, entry)"),
+    "log": ("write_data(data)", "read_data(text)", "write_log(entries)", "read_log(text)", "first_wrong(entries)"),
+    "console": (),
 }
 
 CLASSES = {
@@ -88,6 +98,10 @@ CLASSES = {
         "induced(self, n)"),
     ("long", "ShortRow"): ("__init__(self, f, g)", "connecting(self, n)", "long_row(self, high, low)"),
     ("filtered", "Filtered"): ("__init__(self, c, levels)", "__eq__(self, other)", "steady(self)"),
+    ("replies", "Reply"): ("__init__(self, kind, text='', data=())", "__eq__(self, other)"),
+    ("console", "Console"): (
+        "__init__(self, *, most=300)", "enter(self, line)", "__len__(self)", "__iter__(self)", "names(self)",
+        "log(self)"),
 }
 
 

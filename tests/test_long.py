@@ -369,6 +369,11 @@ class SixGroups(Case):
             self.refused("commute", six_groups, f, g, f, g, *maps)
             # The rows are looked at before the squares.
             self.refused("rows", six_groups, f, g.scaled(2), f, g, *maps)
+        # Both rows are exact in the middle, but g is not onto, or i not one to one.
+        wide = Group(2, ((4, 0),))
+        self.refused("rows", six_groups, f, Map(line, wide, ((1, 0),)), f, g, one, two, Map(wide, four, ((1,), (0,))))
+        plane = Group(2)
+        self.refused("rows", six_groups, f, g, Map(plane, line, ((4,), (0,))), g, Map(line, plane, ((1, 0),)), two, three)
         # Multiples of 4 do not matter in the round of 4.
         self.assertEqual(len(six_groups(f, g, f, g, one.scaled(5), two.scaled(5), three)), 5)
         # f need not be one to one, nor j onto.

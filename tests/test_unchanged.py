@@ -4,15 +4,18 @@ import copy
 
 from tests.helper import Case, snapshot
 from cyclebounds import (
-    build, chain, classes, coefficients, complexes, cone, exact, ext, extension, filtered, group, homology, homotopy,
-    long, maps, pages, products, rows, sixes, smith, standard, subgroup, tensor, whole)
+    build, chain, checker, classes, coefficients, complexes, cone, exact, ext, extension, filtered, group, homology,
+    homotopy, log, long, maps, pages, papers, products, replies, rows, sheet, sixes, smith, standard, subgroup, tensor,
+    whole)
 from cyclebounds.chain import ChainMap
 from cyclebounds.complexes import Complex
+from cyclebounds.console import Console
 from cyclebounds.extension import Extension
 from cyclebounds.filtered import Filtered
 from cyclebounds.group import Group, cyclic_group, read_group
 from cyclebounds.long import ShortRow, cone_row
 from cyclebounds.maps import Map, identity_map
+from cyclebounds.replies import Reply
 from cyclebounds.subgroup import Subgroup
 
 TABLE = [(2, 4), (3, 1)]
@@ -33,6 +36,10 @@ M = ChainMap(D, D, (((1,),), ((1,),)))
 R = cone_row(L)
 SEVEN = (X.i, X.p, X.i, X.p, *[identity_map(group).scaled(2) for group in (X.first(), X.middle(), X.last())])
 W = Filtered(C, [[0, 3], [3, 3], [5]])
+NAMES = {"c": C, "d": D, "l": L, "m": M}
+ENTRY = ("filling d 0 3", Reply("filling", "no", ("bar", (1,), 2)))
+ENTRIES = [("let d = 0: 1 1; 2", Reply("complex", "0: 1 1; 2")), ENTRY, ("", Reply("done"))]
+U = Console()
 
 CALLS = (
     (whole.is_integer, 3), (whole.common_divisor, [4, -6]), (whole.combination, 4, -6),
@@ -94,6 +101,22 @@ CALLS = (
     (pages.near_cycles, W, 1, 3, 0), (pages.near_boundaries, W, 1, 3, 0), (pages.page, W, 1, 3, 0),
     (pages.page_class, W, 1, 3, 0, (2, -1)), (pages.page_map, W, 2, 5, 1), (pages.next_page, W, 2, 3, 0),
     (pages.level_part, W, 3, 0), (pages.last_page, W, 3, 0),
+    (papers.filling_paper, C, 0, (2, -1)), (papers.filling_paper, D, 0, (3,)), (papers.homotopy_paper, L, M),
+    (papers.equivalence_paper, D, D), (papers.equivalence_paper, C, D), (papers.exact_paper, X.i, X.p),
+    (papers.exact_paper, F, G), (papers.split_paper, X), (papers.alike_paper, X, Y), (papers.alike_paper, X, X),
+    (checker.takes_filling, D, 0, (3,), ["bar", [1], 2]), (checker.takes_filling, D, 0, (3,), ("bar", (1,), 2)),
+    (checker.takes_homotopic, L, M, papers.homotopy_paper(L, M)),
+    (checker.takes_equivalent, C, D, papers.equivalence_paper(C, D)),
+    (checker.takes_equivalent, D, D, ("equivalence", [[[1]], [[1]]], [], [], [])),
+    (checker.takes_exact, X.i, X.p, papers.exact_paper(X.i, X.p)), (checker.takes_split, X, papers.split_paper(X)),
+    (checker.takes_alike, X, Y, papers.alike_paper(X, Y)), (checker.takes_alike, X, X, papers.alike_paper(X, X)),
+    (sheet.matrices_text, ((), ((1, 2),))), (sheet.read_matrices, "1 2; -"), (sheet.read_line, "let c = 0: 1 1; 2"),
+    (Reply, "kind", "text", (1, 2)), (ENTRY[1].__eq__, ENTRIES[0][1]),
+    (replies.reply_to, NAMES, "homotopic l m"), (replies.reply_to, NAMES, "sum c c d"),
+    (replies.defined, NAMES, "sum c c d"), (replies.is_right, NAMES, ENTRY), (replies.is_right, NAMES, list(ENTRY)),
+    (log.write_data, (1, ("a", ()))), (log.read_data, "(1 (a ()))"), (log.write_log, ENTRIES),
+    (log.read_log, "> x\n= error text\n# ()\n"), (log.first_wrong, ENTRIES), (log.first_wrong, [[1], None]),
+    (Console,), (U.names,), (U.log,), (U.__len__,), (len, U),
 )
 
 
@@ -101,12 +124,22 @@ class Unchanged(Case):
     def test_arguments_stay_and_answers_are_equal(self):
         for call, *args in CALLS:
             # A method's own object counts among what it is handed.
-            held = [args, getattr(call, "__self__", None), A, B, F, G, PART, OTHER, TABLE, X, Y, C, D, K, L, M, R, SEVEN, W]
+            held = [args, getattr(call, "__self__", None), A, B, F, G, PART, OTHER, TABLE, X, Y, C, D, K, L, M, R, SEVEN, W, NAMES, ENTRY, ENTRIES, U]
             before = snapshot(held)
             first = call(*args)
             self.assertEqual(snapshot(held), before, call)
             again = call(*copy.deepcopy(args))
             self.assertEqual(snapshot(again), snapshot(first), call)
+
+    def test_a_console_changes_and_its_lines_do_not(self):
+        console = Console()
+        found = [console.enter("let c = 0: 1 1; 2"), console.enter("filling c 0 4")]
+        before = snapshot(found)
+        kept = snapshot(console.names())
+        console.enter("dual c c")
+        self.assertEqual(snapshot(found), before)
+        self.assertEqual(snapshot(list(console)[:2]), snapshot([("let c = 0: 1 1; 2", found[0]), ("filling c 0 4", found[1])]))
+        self.assertNotEqual(snapshot(console.names()), kept)
 
     def test_lists_handed_in_may_change_afterwards(self):
         relations, matrix, spanning = [[2, 4], [0, 6]], [[2], [2]], [[1, 1]]
