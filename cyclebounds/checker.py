@@ -62,14 +62,14 @@ def takes_equivalent(a, b, paper):
     """Tell whether a paper shows that two complexes are equivalent, or that they are not."""
     if is_paper(paper, "equivalence", 5):
         _, f, g, s, t = paper
-        return show_equivalence(a, b, f, g, s, t)
+        return shows_equivalence(a, b, f, g, s, t)
     if not is_paper(paper, "apart", 3):
         return False
     _, one, two = paper
     return shows_standard(a, one) and shows_standard(b, two) and lasting(one[0]) != lasting(two[0])
 
 
-def show_equivalence(a, b, f, g, s, t):
+def shows_equivalence(a, b, f, g, s, t):
     """Tell whether f and g are the matrices of chain maps there and back, s and t of homotopies to the identities."""
     if not is_chain(a, b, f) or not is_chain(b, a, g):
         return False

@@ -56,11 +56,12 @@ def exact_paper(f, g):
     spanning = f.matrix + g.source.relations
     table = solutions(spanning, n, ())
     lifts = []
-    for line in [line[:n] for line, row in zip(u, product) if is_zero_row(row)]:
-        found = origin_in(table, n, line)
+    # The rows of u that give zeros begin with all that goes to 0.
+    for y in [start[:n] for start, end in zip(u, product) if is_zero_row(end)]:
+        found = origin_in(table, n, y)
         if found is None:
-            t, m = bar(spanning, n, line)
-            return "left", line, t, m
+            t, m = bar(spanning, n, y)
+            return "left", y, t, m
         lifts.append((found[:f.source.n], found[f.source.n:]))
     return "exact", u, inverse(u), tuple(lifts)
 

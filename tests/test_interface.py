@@ -1,5 +1,6 @@
 """The names and arguments of the interface stand where it lists them (point 0.1)."""
 
+import ast
 import importlib
 import inspect
 import pathlib
@@ -105,6 +106,15 @@ CLASSES = {
 }
 
 
+# The chapters of the document, in their order, and the files that the interface lists for them.
+CHAPTERS = (
+    ("errors",), ("whole", "rows", "smith"), ("group", "subgroup"), ("maps", "exact"), ("build", "tensor"),
+    ("extension", "ext", "sixes"), ("complexes", "homology", "standard"), ("chain", "homotopy", "cone", "classes"),
+    ("long",), ("products", "coefficients"), ("filtered", "pages"), ("papers", "checker"),
+    ("sheet", "replies", "log", "console"),
+)
+
+
 def module(name):
     return importlib.import_module(f"cyclebounds.{name}")
 
@@ -126,6 +136,17 @@ class Interface(unittest.TestCase):
                 method = signature.split("(")[0]
                 self.assertIn(method, vars(found))
                 self.assertEqual(method + str(inspect.signature(vars(found)[method])), signature)
+
+    def test_chapters_use_only_those_before(self):
+        folder = pathlib.Path(cyclebounds.__file__).parent
+        places = {name: at for at, names in enumerate(CHAPTERS) for name in names}
+        self.assertEqual(sorted([*places, "__init__"]), sorted(path.stem for path in folder.glob("*.py")))
+        self.assertEqual(sorted(places), sorted({*FUNCTIONS, *[name for name, _ in CLASSES]}))
+        for name, at in places.items():
+            tree = ast.parse((folder / f"{name}.py").read_text())
+            for node in [node for node in ast.walk(tree) if isinstance(node, ast.ImportFrom)]:
+                if node.module != "math":
+                    self.assertLessEqual(places[node.module.partition(".")[2]], at, name)
 
     def test_the_package_defines_nothing(self):
         text = pathlib.Path(cyclebounds.__file__).read_text()
