@@ -66,7 +66,7 @@ def six_groups(f, g, i, j, a, b, c):
     check_two_rows(f, g, i, j, a, b, c)
     one, two, three = a.kernel(), b.kernel(), c.kernel()
     left, middle, right = [quotient_of(h.image())[0] for h in (a, b, c)]
-    # From the kernel of c back to B, on to E and back to D.
+    # All choices on the way from the kernel of c to B, to E and to D lead to one class.
     ends = times(origins(g, three.rows), b.matrix, b.target.n)
     connecting = Map(group_of(three)[0], left, [left.normal(row) for row in origins(i, ends)])
     return (between(one, f.matrix, two), between(two, g.matrix, three), connecting,

@@ -92,5 +92,6 @@ def kuenneth(c, d, n):
     for p in c.degrees():
         rows = rows + cross_rows(c, d, p, n - p, table)
     inside = Map(first, homology(total, n), rows)
+    # What the cross maps leave is isomorphic to the sum of the groups Tor, and each isomorphism will do.
     left, onto = quotient_of(inside.image())
     return Extension(inside, onto.then(isomorphism(left, last)))
